@@ -1,0 +1,1 @@
+"""Tests of the package; run them with: python3 -m unittest discover -s tests -t ."""

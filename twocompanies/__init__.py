@@ -1,0 +1,1 @@
+"""Twocompanies: what holds on every board of walkers who do not meet."""
