@@ -2,7 +2,7 @@
 
 from twocompanies.errors import BadFilling, BadPieces, BadSize, BadText
 from twocompanies.fillings import filling_numbers, is_filling_from_zero
-from twocompanies.lines import heights_for, piece_read, piece_text, size_read, weight_kept
+from twocompanies.lines import heights_for, lines_and_size, piece_read, piece_text, weight_kept
 from twocompanies.values import is_letter, is_number, is_place, is_size
 
 GREATEST_SIZE = 9
@@ -61,12 +61,7 @@ class Board:
     @classmethod
     def read(cls, text):
         """The board of a text."""
-        if not isinstance(text, str):
-            raise BadText(0)
-        lines = text.split("\n")
-        size = size_read("board", lines[0], GREATEST_SIZE)
-        if size is None:
-            raise BadText(1)
+        lines, size = lines_and_size(text, "board", GREATEST_SIZE)
         pieces = []
         for number in range(1, len(lines)):
             piece = piece_read(size, lines[number].split(" "))

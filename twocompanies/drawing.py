@@ -3,7 +3,7 @@
 from twocompanies.boards import GREATEST_SIZE, Board
 from twocompanies.checks import need_one_size
 from twocompanies.errors import BadSize, BadText
-from twocompanies.lines import size_read
+from twocompanies.lines import lines_and_size
 from twocompanies.plans import MOST_PIECES, Block, take_line
 
 OPPOSITE = {"down": "up", "up": "down", "pass": "pass", "meet": "meet"}
@@ -48,12 +48,7 @@ def straight(size):
 
 def planned(text):
     """The board of a plan."""
-    if not isinstance(text, str):
-        raise BadText(0)
-    lines = text.split("\n")
-    size = size_read("board", lines[0], GREATEST_SIZE)
-    if size is None:
-        raise BadText(1)
+    lines, size = lines_and_size(text, "board", GREATEST_SIZE)
     blocks = [Block(1)]
     for number in range(1, len(lines)):
         if not take_line(size, blocks, lines[number]):

@@ -1,5 +1,6 @@
 """Lines of texts: the first one, with a size, and the lines of pieces."""
 
+from twocompanies.errors import BadText
 from twocompanies.numerals import integer_read, number_read, number_text, reduced
 from twocompanies.values import is_letter, is_size
 
@@ -11,6 +12,17 @@ def size_read(word, line, greatest):
         return None
     size = integer_read(words[1])
     return size if is_size(size, greatest) else None
+
+
+def lines_and_size(text, word, greatest):
+    """The list of the lines of a text, and the size in its first line; raises BadText if that is not as described."""
+    if not isinstance(text, str):
+        raise BadText(0)
+    lines = text.split("\n")
+    size = size_read(word, lines[0], greatest)
+    if size is None:
+        raise BadText(1)
+    return (lines, size)
 
 
 def heights_for(size, kind):
