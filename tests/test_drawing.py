@@ -72,6 +72,11 @@ class Plans(CompanyTest):
         pieces = tuple(("up", (turn + 8) % 8, "z") for turn in range(60))
         self.gives(Board(9, pieces), planned, "board 9\nrepeat 60\nup turn+8 z\nend")
 
+    def test_all_words_of_turns(self):
+        for more in range(1, 10):
+            pieces = tuple(("meet", (turn + more) % 8) for turn in range(20))
+            self.gives(Board(9, pieces), planned, f"board 9\nrepeat 20\nmeet turn+{more}\nend")
+
     def test_turn_of_the_innermost_repeat(self):
         text = "board 4\nrepeat 2\nmeet turn+1\nrepeat 3\nmeet turn\nend\npass turn a\nend\nmeet 2"
         inner = (("meet", 0), ("meet", 1), ("meet", 2))

@@ -2,7 +2,7 @@
 
 from twocompanies.boards import GREATEST_SIZE, Board
 from twocompanies.checks import need_one_size
-from twocompanies.errors import BadSize, BadText
+from twocompanies.errors import BadText
 from twocompanies.lines import lines_and_size
 from twocompanies.plans import MOST_PIECES, Block, take_line
 
@@ -16,12 +16,9 @@ def behind(one, other):
 
 
 def below(one, other):
-    """The board other below one."""
-    size = one.size + other.size
-    if size > GREATEST_SIZE:
-        raise BadSize(size)
+    """The board other below one; Board raises BadSize for the sum of the sizes."""
     lower = [(piece[0], piece[1] + one.size) + piece[2:] for piece in other.pieces]
-    return Board(size, one.pieces + tuple(lower))
+    return Board(one.size + other.size, one.pieces + tuple(lower))
 
 
 def backwards(board):

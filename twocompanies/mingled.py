@@ -30,7 +30,7 @@ def first_ways(board, pairs, rows, columns, known):
     """The ascending list of the ways from the first row with which a tangle can begin."""
     found = []
     for column in columns:
-        if pairs[(rows[0], column)] > 0 and count_tangles(pairs, rows[1:], without(columns, column), known) > 0:
+        if count_tangles(pairs, rows[1:], without(columns, column), known) > 0:
             found.extend(list_ways(board, rows[0], column))
     return sorted(found)
 
@@ -51,8 +51,6 @@ def list_tangles(board, pairs, rows, columns, known):
 
 def is_tangle(board, rows, columns, thing):
     """Whether any value is a tangle from the rows to the columns."""
-    if not isinstance(thing, tuple) or len(thing) != len(rows):
-        return False
-    if not all([is_way(board, way) for way in thing]):
+    if not isinstance(thing, tuple) or not all([is_way(board, way) for way in thing]):
         return False
     return tuple([way[0] for way in thing]) == rows and tuple(sorted([way[-1] for way in thing])) == columns

@@ -61,13 +61,10 @@ def integer_read(word):
 
 def number_read(word):
     """The number that a word is, None if it is not written as numbers are."""
-    parts = word.split("/")
-    if len(parts) > 2:
+    head, sign, tail = word.partition("/")
+    top = integer_read(head)
+    bottom = 1 if sign == "" else integer_read(tail)
+    if top is None or bottom is None or bottom < 1:
         return None
-    whole = [integer_read(part) for part in parts]
-    if None in whole:
-        return None
-    number = (whole[0], 1) if len(whole) == 1 else (whole[0], whole[1])
-    if number[1] < 1 or number_text(reduced(number)) != word:
-        return None
-    return number
+    number = reduced((top, bottom))
+    return number if number_text(number) == word else None

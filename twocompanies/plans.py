@@ -30,7 +30,7 @@ class Block:
         """All turns of a repeat that has ended are put behind."""
         many = inner.many * inner.times
         self.many += many
-        if 0 < many <= MOST_PIECES:
+        if many <= MOST_PIECES:
             self.kept.extend([(piece, None) for piece in all_turns(size, inner.times, inner.kept)])
 
 

@@ -141,6 +141,11 @@ def is_number_row(size, thing):
     return isinstance(thing, tuple) and len(thing) == size and all([is_number(number) for number in thing])
 
 
+def reduced_row(row):
+    """A row of numbers without common divisors."""
+    return tuple([reduced(number) for number in row])
+
+
 class Table:
     """A table of numbers."""
 
@@ -150,7 +155,7 @@ class Table:
         for number, row in enumerate(rows):
             if not is_number_row(len(rows), row):
                 raise BadRows(number)
-        self.rows = tuple([tuple([reduced(worth) for worth in row]) for row in rows])
+        self.rows = tuple([reduced_row(own) for own in rows])
         self.size = len(rows)
 
     def __eq__(self, other):

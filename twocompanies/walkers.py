@@ -8,7 +8,7 @@ def moved(piece, heights, height, after):
     """The one step in which the walker at a height goes to another one, none if that one is taken."""
     if after in heights:
         return []
-    moves = tuple(sorted([after if other == height else other for other in heights]))
+    moves = tuple([after if other == height else other for other in heights])
     return [(moves, (1, 1) if piece[0] == "meet" else piece[2])]
 
 
