@@ -3,6 +3,9 @@
 import random
 
 from twocompanies.boards import Board
+from twocompanies.products import products
+from twocompanies.tables import Table
+from twocompanies.wishes import Wish, wish_of
 
 A = Board(2, (("down", 0, "a"), ("up", 0, (1, 2))))
 M = Board(2, (("meet", 0),))
@@ -11,7 +14,7 @@ LONG_NUMBER = 10 ** 39 + 7
 
 
 def odd_things():
-    """Values of all kinds, none of which is a size, tuple of pieces, way, tangle, sum or pairing by chance."""
+    """Values of all kinds, none of which is a size, tuple of pieces, way, tangle, sum, pairing or product by chance."""
     deep = "x"
     for _ in range(11):
         deep = [deep]
@@ -20,7 +23,7 @@ def odd_things():
         [], [()], {}, {"a": 1}, {0: (1, 1)}, deep, (None,), (True,), (False, 0), ((),), ([],), ({},), ("a",), ("",),
         ("down", 0), ("meet", 0, (1, 1)), (("meet",),), ((("a", True),), (1, 1)), ((("a", 1),), [1, 1]),
         (0, True), ((0, 1), (2, True)), [(0, 1), (2, 3)], Board(1, ()), (Board(1, ()),),
-        [Board(2, ())], ((0, 0), (0, 0), 0), ("board", 1), (LONG_NUMBER, 0), (1, 0), (0, 0), (1, -1), (1, 2, 3),
+        [Board(2, ())], Wish(2, ()), (Wish(1, ()),), Table((((1, 1),),)), ((0, 0), (0, 0), 0), ("board", 1), (LONG_NUMBER, 0), (1, 0), (0, 0), (1, -1), (1, 2, 3),
     ]
 
 
@@ -50,6 +53,22 @@ def random_board(seed, size, many, letters=()):
 def random_boards(letters=(), most_size=4, most_pieces=6, many=60):
     """Boards of several sizes."""
     return [random_board(seed, 1 + seed % most_size, seed % (most_pieces + 1), letters) for seed in range(many)]
+
+
+def random_number(source, most=9):
+    """A number that is not zero, above or below it."""
+    return (source.choice([-1, 1]) * source.randint(1, most), source.randint(1, 4))
+
+
+def random_wish(seed, size, many):
+    """A wish of at most so many parts that depends on the seed alone."""
+    source = random.Random(seed)
+    return wish_of(size, tuple((source.choice(products(size)), random_number(source)) for _ in range(many)))
+
+
+def random_wishes(most_size=4, most_parts=6, many=40):
+    """Wishes of several sizes, the empty one among them."""
+    return [random_wish(seed, 1 + seed % most_size, seed % (most_parts + 1)) for seed in range(many)]
 
 
 def changed_texts(text, signs="01234 \n-+*/^()ab"):

@@ -101,11 +101,12 @@ class Language(unittest.TestCase):
     def test_calls(self):
         own = {node.name for _, tree in trees() for node in ast.walk(tree) if isinstance(node, (ast.FunctionDef, ast.ClassDef))}
         for path, tree in trees():
+            passed = {node.arg for node in ast.walk(tree) if isinstance(node, ast.arg)} & {"steps"}
             for node in ast.walk(tree):
                 if not isinstance(node, ast.Call):
                     continue
                 if isinstance(node.func, ast.Name):
-                    self.assertIn(node.func.id, BUILTINS | own | {"gcd"}, (path, node.lineno))
+                    self.assertIn(node.func.id, BUILTINS | own | passed | {"gcd"}, (path, node.lineno))
                     if node.func.id in LISTS_TAKEN and len(node.args) == 1:
                         self.assertNotIsInstance(node.args[0], ast.GeneratorExp, (path, node.lineno))
                     if node.func.id == "set":

@@ -1,10 +1,11 @@
 """Companies and tangles, and the exchange of tails."""
 
 from twocompanies.checks import need_sets
+from twocompanies.courses import count_courses
 from twocompanies.errors import BadTangle, TooMany
 from twocompanies.mingled import count_pairs, count_tangles, is_tangle, list_tangles
 from twocompanies.values import are_same, are_sets
-from twocompanies.walkers import count_apart, list_apart, ways_of_course
+from twocompanies.walkers import apart_steps, list_apart, ways_of_course
 from twocompanies.ways import touches
 
 
@@ -21,7 +22,7 @@ def tangles(board, rows, columns, *, most=2000):
 def companies(board, rows, columns, *, most=2000):
     """The tuple of all companies from the rows to the columns, in order."""
     need_sets(board.size, rows, columns)
-    counts = count_apart(board, rows, columns)
+    counts = count_courses(board, rows, columns, apart_steps)
     if counts[0].get(rows, 0) > most:
         raise TooMany(most)
     found = [ways_of_course(course, len(rows)) for course in list_apart(board, rows, counts)]

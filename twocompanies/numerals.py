@@ -27,6 +27,12 @@ def number_times(one, other):
     return reduced((one[0] * other[0], one[1] * other[1]))
 
 
+def add_number(numbers, key, number):
+    """Adds a number to the one that a dict has for a key."""
+    before = numbers.get(key)
+    numbers[key] = number if before is None else number_plus(before, number)
+
+
 def number_power(number, exponent):
     """A number times itself; by squares, since exponents may be great."""
     result = (1, 1)

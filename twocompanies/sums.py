@@ -2,7 +2,7 @@
 
 from twocompanies.errors import BadFilling, BadText, Unfilled
 from twocompanies.fillings import filling_numbers, is_filling
-from twocompanies.numerals import integer_read, number_plus, number_power, number_read, number_text
+from twocompanies.numerals import add_number, integer_read, number_power, number_read, number_text
 from twocompanies.numerals import number_times, reduced
 from twocompanies.values import is_integer, is_letter, is_lowest_number, is_pair
 
@@ -42,12 +42,6 @@ def letter_sum(letter):
     return ((((letter, 1),), (1, 1)),)
 
 
-def add_term(numbers, letters, number):
-    """Adds a term to a dict from letters to numbers."""
-    before = numbers.get(letters)
-    numbers[letters] = number if before is None else number_plus(before, number)
-
-
 def sum_of_numbers(numbers):
     """The sum of a dict from letters to numbers."""
     return tuple(sorted([(letters, number) for letters, number in numbers.items() if number[0] != 0]))
@@ -57,7 +51,7 @@ def plus(one, other):
     """The first sum plus the second one."""
     numbers = {letters: number for letters, number in one}
     for letters, number in other:
-        add_term(numbers, letters, number)
+        add_number(numbers, letters, number)
     return sum_of_numbers(numbers)
 
 
@@ -89,7 +83,7 @@ def times(one, other):
     numbers = {}
     for letters, number in one:
         for more, factor in other:
-            add_term(numbers, letters_times(letters, more), number_times(number, factor))
+            add_number(numbers, letters_times(letters, more), number_times(number, factor))
     return sum_of_numbers(numbers)
 
 
@@ -112,7 +106,7 @@ def by_filling(some, filling):
         for letter, exponent in letters:
             if letter in known:
                 worth = number_times(worth, number_power(known[letter], exponent))
-        add_term(numbers, tuple([pair for pair in letters if pair[0] not in known]), worth)
+        add_number(numbers, tuple([pair for pair in letters if pair[0] not in known]), worth)
     return sum_of_numbers(numbers)
 
 

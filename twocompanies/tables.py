@@ -80,28 +80,26 @@ def entry(table, row, column):
     return table[row][column]
 
 
-def minors_with(row, columns, minors):
-    """The minors of some rows and one more row below them, as a dict from their columns."""
-    found = {}
-    for used, some in minors.items():
-        for column in columns:
-            if column not in used:
-                more = tuple(sorted(used + (column,)))
-                part = times(some, row[column])
-                # The sign of an order changes with each greater column ahead of this one.
-                is_even = (len(more) - 1 - more.index(column)) % 2 == 0
-                before = found.get(more, ())
-                found[more] = plus(before, part) if is_even else minus(before, part)
-    return found
+def known_minor(table, rows, columns, known):
+    """A minor of two such sets; known keeps the minors that were found before."""
+    if rows == ():
+        return ONE
+    if (rows, columns) not in known:
+        found = ()
+        for at, column in enumerate(columns):
+            fewer = known_minor(table, rows[:-1], columns[:at] + columns[at + 1:], known)
+            part = times(fewer, table[rows[-1]][column])
+            # The sign of an order changes with each greater column ahead of that of the last row.
+            is_even = (len(columns) - 1 - at) % 2 == 0
+            found = plus(found, part) if is_even else minus(found, part)
+        known[(rows, columns)] = found
+    return known[(rows, columns)]
 
 
 def minor(table, rows, columns):
     """The minor of a table for two sets with equally many places."""
     need_sets(len(table), rows, columns)
-    minors = {(): ONE}
-    for row in rows:
-        minors = minors_with(table[row], columns, minors)
-    return minors.get(columns, ())
+    return known_minor(table, rows, columns, {})
 
 
 def company_sums(board, rows):

@@ -80,3 +80,8 @@ def sets_of(size, many):
     for _ in range(many):
         found = [some + (place,) for some in found for place in range(size) if some == () or place > some[-1]]
     return found
+
+
+def other_places(size, some):
+    """The ascending tuple of the places that are not among some places."""
+    return tuple([place for place in range(size) if place not in some])

@@ -31,34 +31,6 @@ def apart_steps(piece, heights):
     return stay
 
 
-def reached(board, rows):
-    """For each moment the list of the heights that walkers from the rows can have."""
-    layers = [[rows]]
-    for piece in board.pieces:
-        found = {}
-        for heights in layers[-1]:
-            for after, weight in apart_steps(piece, heights):
-                found[after] = True
-        layers.append(list(found))
-    return layers
-
-
-def count_apart(board, rows, columns):
-    """For each moment a dict that tells from which heights how many companies lead on to the columns."""
-    layers = reached(board, rows)
-    later = {heights: 1 for heights in layers[-1] if heights == columns}
-    counts = [later]
-    for number in range(len(board.pieces) - 1, -1, -1):
-        here = {}
-        for heights in layers[number]:
-            many = sum([later.get(after, 0) for after, weight in apart_steps(board.pieces[number], heights)])
-            if many > 0:
-                here[heights] = many
-        counts.append(here)
-        later = here
-    return counts[::-1]
-
-
 def list_apart(board, rows, counts):
     """The list of all courses of companies, each a tuple of heights for each moment."""
     found = [(rows,)] if rows in counts[0] else []
