@@ -7,7 +7,7 @@ def reached(board, start, steps):
     for piece in board.pieces:
         found = {}
         for here in layers[-1]:
-            for after, _ in steps(piece, here):
+            for after, mark in steps(piece, here):
                 found[after] = True
         layers.append(list(found))
     return layers
@@ -21,7 +21,7 @@ def count_courses(board, start, end, steps):
     for number in range(len(board.pieces) - 1, -1, -1):
         earlier = {}
         for here in layers[number]:
-            many = sum([later.get(after, 0) for after, _ in steps(board.pieces[number], here)])
+            many = sum([later.get(after, 0) for after, mark in steps(board.pieces[number], here)])
             if many > 0:
                 earlier[here] = many
         counts.append(earlier)

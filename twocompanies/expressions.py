@@ -56,7 +56,7 @@ def item_read(line, scope):
     if word == "all":
         return ("all", word)
     place = integer_read(word)
-    if place is not None and is_place(line.size, place):
+    if is_place(line.size, place):
         return ("place", place)
     if word in scope:
         return ("variable", word)
