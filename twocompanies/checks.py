@@ -1,6 +1,7 @@
 """Checks of arguments that several modules make."""
 
-from twocompanies.errors import BadSets, OtherSizes
+from twocompanies.boards import letters_of
+from twocompanies.errors import BadSets, OtherSizes, Unfilled
 from twocompanies.values import are_sets
 
 
@@ -14,3 +15,10 @@ def need_sets(size, rows, columns):
     """Raises BadSets for what are not two sets with equally many places."""
     if not are_sets(size, rows, columns):
         raise BadSets((rows, columns))
+
+
+def need_filled(board):
+    """Raises Unfilled with the least letter of a board that has letters."""
+    letters = letters_of(board)
+    if letters != ():
+        raise Unfilled(letters[0])

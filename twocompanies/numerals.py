@@ -27,6 +27,22 @@ def number_times(one, other):
     return reduced((one[0] * other[0], one[1] * other[1]))
 
 
+def number_minus(one, other):
+    """The first number minus the second one."""
+    return number_plus(one, (-other[0], other[1]))
+
+
+def number_over(one, other):
+    """The first number divided by the second one, which is not zero."""
+    sign = 1 if other[0] > 0 else -1
+    return reduced((sign * one[0] * other[1], sign * other[0] * one[1]))
+
+
+def is_less(one, other):
+    """Whether the first number is less than the second one."""
+    return one[0] * other[1] < other[0] * one[1]
+
+
 def add_number(numbers, key, number):
     """Adds a number to the one that a dict has for a key."""
     before = numbers.get(key)

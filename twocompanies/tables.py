@@ -1,8 +1,7 @@
 """Tables of sums and of numbers, and their minors."""
 
-from twocompanies.boards import letters_of
-from twocompanies.checks import need_sets
-from twocompanies.errors import BadRows, OtherSizes, Unfilled
+from twocompanies.checks import need_filled, need_sets
+from twocompanies.errors import BadRows, OtherSizes
 from twocompanies.numerals import reduced
 from twocompanies.sums import ONE, is_sum, letter_sum, minus, number_sum, plus, times
 from twocompanies.values import is_number, sets_of
@@ -122,9 +121,7 @@ def company_sum(board, rows, columns):
 
 def least_minor(board):
     """The least triple of a number of rows, rows and columns whose minor is zero, None if there is none."""
-    letters = letters_of(board)
-    if letters != ():
-        raise Unfilled(letters[0])
+    need_filled(board)
     for many in range(1, board.size + 1):
         for rows in sets_of(board.size, many):
             sums = company_sums(board, rows)

@@ -53,11 +53,23 @@ def is_lowest_number(thing):
     return is_number(thing) and gcd(thing[0], thing[1]) == 1
 
 
-def is_letter(thing):
-    """Whether any value is a string of one to eight letters from a to z."""
-    if not isinstance(thing, str) or not 1 <= len(thing) <= LONGEST_LETTER:
+def is_lowercase(thing, longest):
+    """Whether any value is a string of letters from a to z, of one to so many of them."""
+    if not isinstance(thing, str) or not 1 <= len(thing) <= longest:
         return False
     return all([sign in ALPHABET for sign in thing])
+
+
+def is_letter(thing):
+    """Whether any value is a string of one to eight letters from a to z."""
+    return is_lowercase(thing, LONGEST_LETTER)
+
+
+def kind_of(thing):
+    """The string with which any value begins that is a tuple, None for any other value."""
+    if not isinstance(thing, tuple) or thing == () or not isinstance(thing[0], str):
+        return None
+    return thing[0]
 
 
 def are_same(one, other):

@@ -1,8 +1,7 @@
 """Wishes: sums of products with numbers as factors, and their worths."""
 
-from twocompanies.boards import letters_of
-from twocompanies.checks import need_one_size
-from twocompanies.errors import BadParts, BadText, Unfilled
+from twocompanies.checks import need_filled, need_one_size
+from twocompanies.errors import BadParts, BadText
 from twocompanies.lines import lines_and_size
 from twocompanies.numerals import add_number, integer_read, number_read, number_text, number_times, reduced
 from twocompanies.pairings import GREATEST_SIZE, need_size
@@ -171,7 +170,5 @@ def worth_at(wish, table):
 def filled_worth(wish, board):
     """The worth of a wish at a filled board, a number."""
     need_one_size(wish, board)
-    letters = letters_of(board)
-    if letters != ():
-        raise Unfilled(letters[0])
+    need_filled(board)
     return number_of(worth(wish, board))
