@@ -3,6 +3,8 @@
 import random
 
 from twocompanies.boards import Board
+from twocompanies.consoles import Console
+from twocompanies.houses import House
 from twocompanies.products import products
 from twocompanies.tables import Table
 from twocompanies.wishes import Wish, wish_of
@@ -23,7 +25,7 @@ def odd_things():
         [], [()], {}, {"a": 1}, {0: (1, 1)}, deep, (None,), (True,), (False, 0), ((),), ([],), ({},), ("a",), ("",),
         ("down", 0), ("meet", 0, (1, 1)), (("meet",),), ((("a", True),), (1, 1)), ((("a", 1),), [1, 1]),
         (0, True), ((0, 1), (2, True)), [(0, 1), (2, 3)], Board(1, ()), (Board(1, ()),),
-        [Board(2, ())], Wish(2, ()), (Wish(1, ()),), Table((((1, 1),),)),
+        [Board(2, ())], Wish(2, ()), (Wish(1, ()),), Table((((1, 1),),)), House(2), (House(1),), Console(House(1)),
         ((0, 0), (0, 0), 0), ("board", 1), (LONG_NUMBER, 0), (1, 0), (0, 0), (1, -1), (1, 2, 3),
     ]
 

@@ -37,11 +37,31 @@ FUNCTIONS = {
     "signedrows": ["signed_rows(wish)", "pairing_rows(pairing)", "coordinates_by_rows(wish)", "rows_worth(rows, table)"],
     "covers": ["is_cover(board, thing)", "covers(board, *, most=3000)", "loads(board, cover)", "cover_weight(board, cover)",
                "cover_drawing(board, cover)"],
+    "shares": ["share(board, pairing)", "shares(board)", "filled_shares(board)", "drawn(board)", "worth_by_shares(wish, board)",
+               "is_nought_on(wish, board)"],
+    "ever": ["is_never_below(wish)", "first_below(wish)", "least_below(wish)", "judge_never(wish)", "never_holds(wish, thing)",
+             "are_alike(one, other)", "first_parting(one, other)", "judge_alike(one, other)", "alike_holds(one, other, thing)",
+             "is_ever_at_least(one, other)"],
+    "factors": ["judge_factors(one, other)", "factors_holds(one, other, thing)", "is_factor(one, other, number)",
+                "greatest_factor(one, other)", "least_factor(one, other)"],
+    "offers": ["are_offers(thing)", "judge_offers(target, offers)", "offers_holds(target, offers, thing)",
+               "least_price(target, offers)", "do_cover(target, offers, thing)"],
+    "orders": ["does_stay_below(size, one, other)", "just_above(size, product)", "just_below(size, product)", "lowest(size)",
+               "highest(size)", "bunch(pairing)", "first_chain(size, one, other)", "judge_order(size, one, other)",
+               "order_holds(size, one, other, thing)", "longest_chain(size)"],
+    "deciding": ["do_decide(boards)", "judge_boards(boards)", "boards_holds(boards, thing)", "lacking(boards)", "spare(boards)"],
+    "asking": ["is_question(thing)", "judged(question)", "paper_holds(question, thing)", "is_told_yes(question)",
+               "turned_question(question, upside)", "turned_paper(question, paper, upside)"],
 }
 CLASSES = {
     ("boards", "Board"): ["__init__(self, size, pieces)", "__len__(self)", "__eq__(self, other)", "__str__(self)", "read(text)"],
     ("tables", "Table"): ["__init__(self, rows)", "__eq__(self, other)", "sums(self)"],
     ("wishes", "Wish"): ["__init__(self, size, parts)", "__len__(self)", "__eq__(self, other)", "__str__(self)", "read(text)"],
+    ("houses", "House"): ["__init__(self, size)", "__eq__(self, other)", "copy(self)", "__str__(self)", "read(text)", "names(self)",
+                          "board(self, name)", "wish(self, name)", "promises(self)", "deals(self)", "deal(self, changes)",
+                          "change(self, change)", "would(self, changes)", "undo(self)", "worth(self, wish, board)",
+                          "shares(self, board)", "coordinates(self, wish)", "judged(self, promise)"],
+    ("consoles", "Console"): ["__init__(self, house)", "run(self, line)"],
 }
 
 

@@ -27,6 +27,19 @@ def trees():
     return [(path, ast.parse(path.read_text())) for path in FILES]
 
 
+def tables(tree):
+    """The names of the dicts at module level whose values are functions."""
+    return {node.targets[0].id for node in tree.body if isinstance(node, ast.Assign) and isinstance(node.value, ast.Dict)
+            and any(isinstance(value, ast.Name) for value in node.value.values)}
+
+
+def picked_from_tables(tree):
+    """The names that are assigned a function of such a dict."""
+    found = tables(tree)
+    return {node.targets[0].id for node in ast.walk(tree) if isinstance(node, ast.Assign) and isinstance(node.value, ast.Subscript)
+            and isinstance(node.value.value, ast.Name) and node.value.value.id in found}
+
+
 class Language(unittest.TestCase):
     def test_files(self):
         self.assertIn(PACKAGE / "__init__.py", FILES)
@@ -102,6 +115,7 @@ class Language(unittest.TestCase):
         own = {node.name for _, tree in trees() for node in ast.walk(tree) if isinstance(node, (ast.FunctionDef, ast.ClassDef))}
         for path, tree in trees():
             passed = {node.arg for node in ast.walk(tree) if isinstance(node, ast.arg)} & {"steps"}
+            passed |= picked_from_tables(tree)
             for node in ast.walk(tree):
                 if not isinstance(node, ast.Call):
                     continue
@@ -134,6 +148,9 @@ class Language(unittest.TestCase):
                 if name is not None:
                     self.assertNotIn(name, imported | classes, (path, node.lineno))
                     self.assertFalse(hasattr(builtins, name), (path, node.lineno))
+                    self.assertFalse(name[:1] == "_" and name != "_", (path, node.lineno))
+                if isinstance(node, ast.Name) and isinstance(node.ctx, ast.Load):
+                    self.assertNotEqual(node.id, "_", (path, node.lineno))
 
     def test_barred_words(self):
         for path in FILES:
@@ -148,5 +165,51 @@ class Language(unittest.TestCase):
                 self.assertIsInstance(node, kinds, path)
                 if isinstance(node, ast.Expr):
                     self.assertIsInstance(node.value, ast.Constant, path)
-                if isinstance(node, ast.Assign):
-                    ast.literal_eval(node.value)
+                if isinstance(node, ast.Assign) and node.targets[0].id in tables(tree):
+                    above = {own.name for own in tree.body if isinstance(own, ast.FunctionDef) and own.lineno < node.lineno}
+                    for key, value in zip(node.value.keys, node.value.values):
+                        self.assertIsInstance(key, ast.Constant, path)
+                        self.assertIn(value.id, above, path)
+                elif isinstance(node, ast.Assign):
+                    kept = ast.literal_eval(node.value)
+                    inner = list(kept.values()) if isinstance(kept, dict) else list(kept) if isinstance(kept, (list, tuple)) else []
+                    self.assertFalse([part for part in inner if isinstance(part, (list, dict))], (path, node.lineno))
+
+    def test_lists_and_dicts_at_module_level_are_only_read(self):
+        for path, tree in trees():
+            names = {node.targets[0].id for node in tree.body if isinstance(node, ast.Assign) and isinstance(node.value, (ast.Dict, ast.List))}
+            read = set()
+            for node in ast.walk(tree):
+                if isinstance(node, ast.Subscript) and isinstance(node.ctx, ast.Load):
+                    read.add(node.value)
+                if isinstance(node, ast.Attribute) and node.attr in ("get", "items", "values", "keys", "index"):
+                    read.add(node.value)
+                if isinstance(node, ast.Compare) and isinstance(node.ops[0], (ast.In, ast.NotIn)):
+                    read.add(node.comparators[0])
+            for node in ast.walk(tree):
+                if isinstance(node, ast.Name) and node.id in names and isinstance(node.ctx, ast.Load):
+                    self.assertIn(node, read, (path, node.lineno))
+
+    def test_handlers_catch_own_errors(self):
+        own = {node.name for node in ast.parse((PACKAGE / "errors.py").read_text()).body if isinstance(node, ast.ClassDef)}
+        for path, tree in trees():
+            for node in ast.walk(tree):
+                if isinstance(node, ast.ExceptHandler):
+                    self.assertIsInstance(node.type, ast.Name, path)
+                    self.assertIn(node.type.id, own, (path, node.lineno))
+                if isinstance(node, ast.Raise):
+                    self.assertIsInstance(node.exc, ast.Call, (path, node.lineno))
+                    self.assertIn(node.exc.func.id, own, (path, node.lineno))
+
+    def test_methods_and_attributes(self):
+        methods, attributes = {}, {}
+        for path, tree in trees():
+            for made in [node for node in tree.body if isinstance(node, ast.ClassDef)]:
+                named = [node.name for node in made.body if isinstance(node, ast.FunctionDef)]
+                self.assertEqual(len(named), len(set(named)), (path, made.name))
+                methods[made.name] = set(named)
+                attributes[made.name] = {node.attr for node in ast.walk(made) if isinstance(node, ast.Attribute)
+                                         and isinstance(node.ctx, ast.Store) and node.value.id == "self"}
+        everything = set().union(*attributes.values())
+        for name, named in methods.items():
+            self.assertEqual(named & everything, set(), name)

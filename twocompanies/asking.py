@@ -16,8 +16,8 @@ from twocompanies.values import are_sets, is_size, kind_of
 from twocompanies.wishes import Wish
 
 LENGTHS = {"never": 2, "alike": 3, "factors": 3, "offers": 3, "order": 4, "boards": 2, "tangle": 5}
-YES = {"never": "never", "alike": "alike", "factors": "stretch", "offers": "least", "order": "below", "boards": "decide",
-       "tangle": "company"}
+YES = {"never": "never", "alike": "alike", "factors": "stretch", "offers": "least", "order": "below",
+       "boards": "decide", "tangle": "company"}
 TURNED = ("never", "alike", "factors", "offers", "boards")
 
 
