@@ -5,6 +5,7 @@ later in order. So the shares are found from worths, the last one first, and no 
 there may be very many.
 """
 
+from twocompanies.boards import filled, letters_of
 from twocompanies.checks import need_filled, need_one_size
 from twocompanies.coordinates import coordinate, coordinates
 from twocompanies.errors import BadPairing, SometimesBelow
@@ -47,7 +48,9 @@ def filled_shares(board):
 
 def drawn(board):
     """The ascending tuple of the pairings that a board draws."""
-    return tuple([pairing for pairing, some in zip(pairings(board.size), shares(board)) if some != ()])
+    # No number in a share is below zero, so a share that is not zero is not zero for letters that are 1, either.
+    ones = filled(board, tuple([(letter, (1, 1)) for letter in letters_of(board)]))
+    return tuple([pairing for pairing, some in zip(pairings(board.size), shares(ones)) if some != ()])
 
 
 def worth_by_shares(wish, board):
