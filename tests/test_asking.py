@@ -57,7 +57,7 @@ def order_questions():
 
 
 def tangle_questions():
-    found = [("tangle", DRAWN, (0, 2), (0, 1), tangle) for tangle in tangles(DRAWN, (0, 2), (0, 1))]
+    found = [("tangle", DRAWN, (0, 1), (0, 2), tangle) for tangle in tangles(DRAWN, (0, 1), (0, 2))]
     return found + [("tangle", M, (0, 1), (0, 1), tangle) for tangle in tangles(M, (0, 1), (0, 1))] + [("tangle", A, (), (), ())]
 
 
@@ -161,12 +161,12 @@ class Questions(CompanyTest):
         for seed, question in enumerate(all_questions()[::5]):
             paper = judged(question)
             for thing in some_changed(question, seed, 30):
-                if is_question(thing) and all(board.size < 7 for board in (thing[1] if thing[0] == "boards" else ())):
-                    self.gives(right(thing, judged(thing)), paper_holds, thing, judged(thing))
-                    self.assertTrue(right(thing, judged(thing)))
-                elif not is_question(thing):
+                if not is_question(thing):
                     self.gives(False, paper_holds, thing, paper)
                     self.raises(BadQuestion(thing), judged, thing)
+                elif thing[0] != "order" or thing[1] in ORDERS:
+                    self.gives(True, paper_holds, thing, judged(thing))
+                    self.assertTrue(right(thing, judged(thing)))
 
     def test_any_values_as_papers(self):
         questions = all_questions()[::12]

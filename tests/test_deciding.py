@@ -132,6 +132,10 @@ class Deciding(CompanyTest):
         self.gives(True, boards_holds, (M,), ("misled", wish_times((-1, 1), whole(2))))
         self.gives(False, boards_holds, (M,), ("misled", wish_with(2, ((-1, 9), (1, 1)))))
         self.gives(False, boards_holds, (M,), ("misled", wish_with(2, ((0, 1), (1, 1)))))
+        # A wish of another size misleads nobody, though it is below zero somewhere.
+        for size in (1, 3, 6):
+            self.gives(False, boards_holds, (M,), ("misled", wish_times((-1, 1), whole(size))))
+            self.gives(False, boards_holds, (NOTHING,), ("misled", wish_times((-1, 1), whole(size))))
 
     def test_numbers(self):
         boards = (straight(2), M, BOTH, M)
